@@ -5,6 +5,9 @@ OUT_OF_RANGE = -2
 TOO_LATE = -3
 NO_DRAFT = -4
 NO_ROOM = -5
+# The umpire is off where it has to be on, or on where it has to be off.
+SWITCHED_WRONG = -6
+SEASON_NOT_THERE = -7
 
 LEAST_POWERS = 2
 MOST_POWERS = 7
@@ -14,6 +17,7 @@ MOST_TICK = 1000000
 LAST_NOW = 100000000
 LONGEST_TEXT = 120
 GREATEST_SIGN = 255
+LAST_SEASON = 1000000
 
 BEGIN = 0
 TICK = 1
@@ -22,9 +26,18 @@ CLEAR = 3
 SEND = 4
 ASK = 5
 DELIVER = 6
+LOSE = 7
+DOUBLE = 8
+STOP = 9
+START = 10
+TELL = 11
+SEE = 12
+GOT = 13
+UMPIRE = 14
+BAG = 15
 
 # How many whole numbers stand behind each call's own, by its place; a row comes behind these.
-NUMBERS_OF_CALL = (3, 1, 1, 1, 1, 1, 1, 1)
+NUMBERS_OF_CALL = (3, 1, 1, 1, 1, 1, 1, 1, 1, 0, 0, 1, 1, 2, 0, 0)
 
 # The kinds of message; a message of the document's kind ask is a QUESTION here, as ASK is the call.
 HAND = 0
@@ -104,25 +117,20 @@ def within(number, least, most):
     return least <= number and number <= most
 
 
-def is_power(game, p):
-    return within(p, 0, len(game.machines) - 1)
-
-
-def is_message(game, i):
-    return within(i, 0, len(game.messages) - 1)
-
-
 def is_text(numbers):
     return len(numbers) <= LONGEST_TEXT and all([within(number, 0, GREATEST_SIGN) for number in numbers])
 
 
-def is_full(game):
-    return len(game.messages) >= game.room
-
-
 def put(game, message):
-    if not is_full(game):
-        game.messages.append(message)
+    """Put the message behind the others, and say whether there was room; else it is lost."""
+    if len(game.messages) >= game.room:
+        return False
+    game.messages.append(message)
+    return True
+
+
+def put_or_refuse(game, message):
+    return [0] if put(game, message) else [NO_ROOM]
 
 
 def put_opened(game, p, season):
@@ -185,17 +193,12 @@ def bring_opened(game, opened):
 
 
 def begin(game, powers, span, room):
-    fits = within(powers, LEAST_POWERS, MOST_POWERS) and within(span, 1, MOST_SPAN) and within(room, 1, MOST_ROOM)
-    if not fits:
-        return [OUT_OF_RANGE]
     game.lay_out(powers, span, room)
     game.begun = True
     return [0]
 
 
 def tick(game, n):
-    if not within(n, 0, MOST_TICK):
-        return [OUT_OF_RANGE]
     if game.now + n > LAST_NOW:
         return [TOO_LATE]
     game.now = game.now + n
@@ -204,14 +207,10 @@ def tick(game, n):
 
 
 def write(game, p, text):
-    if not is_power(game, p) or not is_text(text):
-        return [OUT_OF_RANGE]
     return new_draft(game.machines[p], tuple([1, len(text)] + text))
 
 
 def clear(game, p):
-    if not is_power(game, p):
-        return [OUT_OF_RANGE]
     return new_draft(game.machines[p], NOTHING)
 
 
@@ -222,29 +221,17 @@ def new_draft(machine, written):
 
 
 def send(game, p):
-    if not is_power(game, p):
-        return [OUT_OF_RANGE]
     machine = game.machines[p]
     if machine.draft is None:
         return [NO_DRAFT]
-    if is_full(game):
-        return [NO_ROOM]
-    put(game, Message(HAND, p, machine.season, machine.version, machine.draft, ()))
-    return [0]
+    return put_or_refuse(game, Message(HAND, p, machine.season, machine.version, machine.draft, ()))
 
 
 def ask(game, p):
-    if not is_power(game, p):
-        return [OUT_OF_RANGE]
-    if is_full(game):
-        return [NO_ROOM]
-    put(game, Message(QUESTION, p, game.machines[p].season, 0, NOTHING, ()))
-    return [0]
+    return put_or_refuse(game, Message(QUESTION, p, game.machines[p].season, 0, NOTHING, ()))
 
 
 def deliver(game, i):
-    if not is_message(game, i):
-        return [OUT_OF_RANGE]
     # It is taken out first: what it brings about may need its room.
     message = game.messages.pop(i)
     bring(game, message)
@@ -252,17 +239,96 @@ def deliver(game, i):
 
 
 def lose(game, i):
-    if not is_message(game, i):
-        return [OUT_OF_RANGE]
     game.messages.pop(i)
     return [0]
 
 
-def answer_call(game, call, numbers, text):
+def double(game, i):
+    return put_or_refuse(game, game.messages[i])
+
+
+def stop(game):
+    if not game.umpire.on:
+        return [SWITCHED_WRONG]
+    game.umpire.on = False
+    return [0]
+
+
+def start(game):
+    if game.umpire.on:
+        return [SWITCHED_WRONG]
+    game.umpire.on = True
+    end_season_if_due(game)
+    return [game.umpire.season]
+
+
+def tell(game, season):
+    if not game.umpire.on:
+        return [SWITCHED_WRONG]
+    if season >= len(game.umpire.opened):
+        return [SEASON_NOT_THERE]
+    before = len(game.messages)
+    for p in range(len(game.machines)):
+        put_opened(game, p, season)
+    return [len(game.messages) - before]
+
+
+def see(game, p):
+    machine = game.machines[p]
+    known = [machine.season, machine.version, machine.acknowledged]
+    if machine.draft is None:
+        return known + [0]
+    return known + [1] + list(machine.draft)
+
+
+def got(game, p, season):
+    rows = game.machines[p].rows
+    if season >= len(rows):
+        return [SEASON_NOT_THERE]
+    told = []
+    for written in rows[season]:
+        told.extend(written)
+    return told
+
+
+def show_umpire(game):
+    umpire = game.umpire
+    return [1 if umpire.on else 0, game.now, umpire.season, umpire.deadline]
+
+
+def show_bag(game):
+    told = [len(game.messages)]
+    for message in game.messages:
+        told.extend([message.kind, message.power, message.season, message.version])
+    return told
+
+
+def fits(game, call, numbers, text):
+    """Whether each argument of the call is in its range."""
+    if call in (STOP, START, UMPIRE, BAG):
+        return True
+    first = numbers[0]
+    if call == BEGIN:
+        rest = within(numbers[1], 1, MOST_SPAN) and within(numbers[2], 1, MOST_ROOM)
+        return within(first, LEAST_POWERS, MOST_POWERS) and rest
+    if call == TICK:
+        return within(first, 0, MOST_TICK)
+    if call == TELL:
+        return within(first, 0, LAST_SEASON)
+    if call in (DELIVER, LOSE, DOUBLE):
+        return within(first, 0, len(game.messages) - 1)
+    is_power = within(first, 0, len(game.machines) - 1)
+    if call == WRITE:
+        return is_power and is_text(text)
+    if call == GOT:
+        return is_power and within(numbers[1], 0, LAST_SEASON)
+    return is_power
+
+
+def make_call(game, call, numbers, text):
+    """Make a call whose arguments are in their ranges on a game that is begun, or begin it."""
     if call == BEGIN:
         return begin(game, numbers[0], numbers[1], numbers[2])
-    if not game.begun:
-        return [NOT_BEGUN]
     if call == TICK:
         return tick(game, numbers[0])
     if call == WRITE:
@@ -275,8 +341,32 @@ def answer_call(game, call, numbers, text):
         return ask(game, numbers[0])
     if call == DELIVER:
         return deliver(game, numbers[0])
-    # No other calls come, so what is left is lose.
-    return lose(game, numbers[0])
+    if call == LOSE:
+        return lose(game, numbers[0])
+    if call == DOUBLE:
+        return double(game, numbers[0])
+    if call == STOP:
+        return stop(game)
+    if call == START:
+        return start(game)
+    if call == TELL:
+        return tell(game, numbers[0])
+    if call == SEE:
+        return see(game, numbers[0])
+    if call == GOT:
+        return got(game, numbers[0], numbers[1])
+    if call == UMPIRE:
+        return show_umpire(game)
+    # No other calls come, so what is left is bag.
+    return show_bag(game)
+
+
+def answer_call(game, call, numbers, text):
+    if call != BEGIN and not game.begun:
+        return [NOT_BEGUN]
+    if not fits(game, call, numbers, text):
+        return [OUT_OF_RANGE]
+    return make_call(game, call, numbers, text)
 
 
 def answer_line(game, calls):

@@ -1,8 +1,8 @@
 """Finds what in a file of the package lies outside the rules of the language document.
 
 It is narrower than the rules where that makes a rule easy to see: no errors, sets,
-lambdas, keywords, annotations, or lists and dicts at a file's top. It may be widened
-when the program needs one of these, with the rule that then has to be looked at.
+lambdas, keywords, annotations, escapes, or lists and dicts at a file's top. It may be
+widened when the program needs one of these, with the rule that then has to be looked at.
 """
 
 import ast
@@ -51,7 +51,7 @@ def file_faults(name):
 def faults(source):
     """What is wrong in one file, each as a text that begins with its rule."""
     tree = ast.parse(source)
-    found = sign_faults(source) + top_faults(tree) + class_faults(tree) + name_faults(tree)
+    found = sign_faults(source) + top_faults(tree) + class_faults(tree) + class_use_faults(tree) + name_faults(tree)
     for node in ast.walk(tree):
         if isinstance(node, ast.stmt):
             found += statement_faults(node)
@@ -74,6 +74,8 @@ def sign_faults(source):
             found.append(f"L14 sign in line {number}")
         if WORDS.search(row):
             found.append(f"L17 word in line {number}")
+        if "\\" in row:
+            found.append(f"L27 escape in line {number}")
     return found
 
 
@@ -90,6 +92,9 @@ def top_faults(tree):
     found = []
     bound = []
     imports_over = False
+    for node in ast.walk(tree):
+        if isinstance(node, ast.ImportFrom) and node not in tree.body:
+            found.append(f"L2 line {node.lineno}")
     for place, node in enumerate(tree.body):
         if place == 0 and isinstance(node, ast.Expr) and isinstance(node.value, ast.Constant):
             continue
@@ -136,6 +141,29 @@ def class_faults(tree):
     methods.discard("__init__")
     found += [f"L18 {name} is a method and a value" for name in sorted(methods & held)]
     return found + [f"L26 {name}" for name in sorted((methods | held) & PYTHONS)]
+
+
+def class_use_faults(tree):
+    """L18: a class is called, is a base or stands by isinstance; values are given through a local name."""
+    found = []
+    tops = {node.name for node in tree.body if isinstance(node, (ast.ClassDef, ast.FunctionDef))}
+    tops.update(part.id for node in tree.body if isinstance(node, ast.Assign) for part in node.targets)
+    classes = {node.name for node in tree.body if isinstance(node, ast.ClassDef)}
+    right = []
+    for node in ast.walk(tree):
+        if isinstance(node, ast.Call):
+            right.append(node.func)
+            if isinstance(node.func, ast.Name) and node.func.id == "isinstance":
+                right += node.args[1:]
+        if isinstance(node, ast.ClassDef):
+            right += node.bases
+    for node in ast.walk(tree):
+        if isinstance(node, ast.Name) and node.id in classes and node not in right:
+            found.append(f"L18 {node.id} in line {node.lineno}")
+        if isinstance(node, (ast.Attribute, ast.Subscript)) and isinstance(node.ctx, ast.Store):
+            if isinstance(node.value, ast.Name) and node.value.id in tops:
+                found.append(f"L18 value in line {node.lineno}")
+    return found
 
 
 def is_docstring(node):
@@ -216,8 +244,9 @@ def expression_faults(node):
             found.append(f"L27 sign in line {node.lineno}")
     if isinstance(node, ast.BinOp) and isinstance(node.op, (ast.Div, ast.MatMult)):
         found.append(f"L7 sign in line {node.lineno}")
-    if isinstance(node, ast.BinOp) and isinstance(node.op, ast.Pow) and not isinstance(node.right, ast.Constant):
-        found.append(f"L27 exponent in line {node.lineno}")
+    if isinstance(node, ast.BinOp) and isinstance(node.op, ast.Pow):
+        if not isinstance(node.right, ast.Constant) or node.right.value not in range(65):
+            found.append(f"L27 exponent in line {node.lineno}")
     if isinstance(node, ast.ListComp) and (len(node.generators) > 1 or len(node.generators[0].ifs) > 1):
         found.append(f"L7 comprehension in line {node.lineno}")
     if isinstance(node, ast.Compare):

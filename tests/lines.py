@@ -38,6 +38,44 @@ def lose(i):
     return [7, i]
 
 
+def double(i):
+    return [8, i]
+
+
+def stop():
+    return [9]
+
+
+def start():
+    return [10]
+
+
+def tell(season):
+    return [11, season]
+
+
+def see(p):
+    return [12, p]
+
+
+def got(p, season):
+    return [13, p, season]
+
+
+def umpire():
+    return [14]
+
+
+def bag():
+    return [15]
+
+
+def all_but_begin(number):
+    """Each call but begin, with this for each of its whole numbers."""
+    return [tick(number), write(number), clear(number), send(number), ask(number), deliver(number), lose(number),
+            double(number), stop(), start(), tell(number), see(number), got(number, number), umpire(), bag()]
+
+
 def joined(calls):
     line = []
     for call in calls:
@@ -85,18 +123,31 @@ def more(game, *calls):
 
 
 def written(text):
-    """A text as the program keeps it."""
+    """A text as the program keeps it and as it stands in an answer."""
     return (1, len(text)) + tuple(text)
+
+
+def apart(answer):
+    """What got answers, power by power; numbers that don't fit fail."""
+    parts = []
+    place = 0
+    while place < len(answer):
+        end = place + 1 if answer[place] == 0 else place + 2 + answer[place + 1]
+        if answer[place] not in (0, 1) or end > len(answer):
+            raise AssertionError(f"this is not what is written: {answer!r}")
+        parts.append(tuple(answer[place:end]))
+        place = end
+    return parts
 
 
 def image(game):
     """All that the game holds, to be compared with ==."""
-    umpire = game.umpire
+    desk = game.umpire
     return {
         "game": (game.begun, game.span, game.room, game.now),
         "machines": [(m.season, m.version, m.acknowledged, m.draft, tuple(m.rows)) for m in game.machines],
-        "umpire": (umpire.on, umpire.season, umpire.deadline, tuple(umpire.opened)),
-        "sheets": [(sheet.version, sheet.written) for sheet in umpire.sheets],
+        "umpire": (desk.on, desk.season, desk.deadline, tuple(desk.opened)),
+        "sheets": [(sheet.version, sheet.written) for sheet in desk.sheets],
         "messages": [flat(message) for message in game.messages],
     }
 

@@ -3,7 +3,6 @@
 import unittest
 
 from lines import begin, clear, deliver, more, played, replies, send, tick, write, written
-from sealedorders.game import end_season_if_due
 
 NOTHING = (0,)
 
@@ -67,21 +66,6 @@ class Opening(unittest.TestCase):
         self.assertEqual(len(game.messages), 1)
         machine = game.machines[0]
         self.assertEqual((machine.season, machine.version, machine.draft), (0, 1, written([1])))
-
-    def test_an_umpire_that_is_off_ends_no_season(self):
-        game = played(begin())
-        game.umpire.on = False
-        self.assertEqual(more(game, tick(30)), [[30, 0]])
-        self.assertEqual((game.umpire.deadline, game.umpire.opened), (10, []))
-
-    def test_an_umpire_that_is_on_again_ends_just_one(self):
-        game = played(begin())
-        game.umpire.on = False
-        more(game, tick(30))
-        game.umpire.on = True
-        end_season_if_due(game)
-        end_season_if_due(game)
-        self.assertEqual((game.umpire.season, game.umpire.deadline), (1, 40))
 
 
 if __name__ == "__main__":

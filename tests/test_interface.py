@@ -4,7 +4,8 @@ import contextlib
 import io
 import unittest
 
-from lines import ask, begin, clear, deliver, joined, lose, send, tick, write
+from lines import (all_but_begin, ask, bag, begin, clear, deliver, double, got, joined, lose, see, send, start, stop,
+                   tell, tick, umpire, write)
 from sealedorders.game import answers
 
 
@@ -18,8 +19,8 @@ class SealedList(list):
     __setitem__ = __delitem__ = __iadd__ = __imul__ = refuse
 
 
-# Each call of three games' worth, with its count and its answer.
-STORY = (
+# Calls on several games, one begun behind another, each with its count and its answer.
+SHORT_STORY = (
     (tick(1), [1, -1]),
     (begin(8, 10, 5), [1, -2]),
     (begin(2, 10, 2), [1, 0]),
@@ -60,18 +61,65 @@ STORY = (
 )
 
 
+def long_story():
+    """Two hundred calls, all sixteen among them, each with its count and its answer."""
+    rows = [(call, [1, -1]) for call in all_but_begin(0)]
+    rows += [(begin(7, 10, 100), [1, 0]), (umpire(), [4, 1, 0, 0, 10]), (bag(), [1, 0])]
+    rows += [(call, [1, -2]) for call in all_but_begin(-1) if len(call) > 1]
+    rows += [(see(p), [4, 0, 0, 0, 0]) for p in range(7)]
+    rows += [(write(p, [p] * p), [1, 1]) for p in range(7)]
+    rows += [(see(p), [6 + p, 0, 1, 0, 1, 1, p] + [p] * p) for p in range(7)]
+    rows += [(clear(6), [1, 2]), (see(6), [5, 0, 2, 0, 1, 0]), (stop(), [1, 0]), (stop(), [1, -6])]
+    rows += [(send(p), [1, 0]) for p in range(7)]
+    rows += [(start(), [1, 0]), (start(), [1, -6]), (tell(0), [1, -7]), (double(2), [1, 0]), (lose(7), [1, 0])]
+    rows += [(bag(), [29, 7] + joined([[0, p, 0, 2 if p == 6 else 1] for p in range(7)]))]
+    rows += [(deliver(0), [1, 7]) for p in range(7)]
+    rows += [(bag(), [29, 7] + joined([[1, p, 0, 2 if p == 6 else 1] for p in range(7)]))]
+    rows += [(deliver(0), [1, left]) for left in (6, 5, 4, 3, 2, 1, 0)]
+    rows += [(see(p), [6 + p, 0, 1, 1, 1, 1, p] + [p] * p) for p in range(6)]
+    rows += [(see(6), [5, 0, 2, 2, 1, 0]), (stop(), [1, 0]), (tick(25), [2, 25, 0]), (umpire(), [4, 0, 25, 0, 10])]
+    rows += [(tell(0), [1, -6]), (start(), [1, 1]), (umpire(), [4, 1, 25, 1, 35]), (tell(1), [1, -7])]
+    rows += [(ask(3), [1, 0]), (deliver(0), [1, 1]), (tell(0), [1, 7]), (got(3, 0), [1, -7])]
+    rows += [(bag(), [33, 8, 3, 3, 0, 0] + joined([[3, p, 0, 0] for p in range(7)]))]
+    rows += [(deliver(0), [1, left]) for left in (7, 6, 5, 4, 3, 2, 1, 0)]
+    rows += [(see(p), [4, 1, 2 if p == 6 else 1, 2 if p == 6 else 1, 0]) for p in range(7)]
+    opened = joined([[1, p] + [p] * p for p in range(6)]) + [0]
+    rows += [(got(p, 0), [len(opened)] + opened) for p in range(7)]
+    rows += [(got(p, 1), [1, -7]) for p in range(7)]
+    rows += [(send(0), [1, -4]), (tick(9), [2, 34, 1]), (tick(1), [2, 35, 2]), (begin(2, 5, 1), [1, 0])]
+    rows += [(umpire(), [4, 1, 0, 0, 5]), (ask(1), [1, 0]), (double(0), [1, -5]), (bag(), [5, 1, 2, 1, 0, 0])]
+    rows += [(begin(2, 1, 100), [1, 0])]
+    for season in range(30):
+        rows += [(tick(1), [2, season + 1, season + 1]), (tell(season), [1, 2])]
+    rows += [(bag(), [241, 60] + joined([[3, 0, season, 0, 3, 1, season, 0] for season in range(30)]))]
+    return rows
+
+
 def story():
-    return joined([call for call, answer in STORY])
+    return joined([call for call, answer in long_story()])
 
 
 class Answers(unittest.TestCase):
     def test_each_answer_behind_its_count(self):
-        self.assertEqual(answers(story()), joined([answer for call, answer in STORY]))
+        line = joined([call for call, answer in SHORT_STORY])
+        self.assertEqual(answers(line), joined([answer for call, answer in SHORT_STORY]))
+
+    def test_each_of_two_hundred_answers_behind_its_count(self):
+        rows = long_story()
+        self.assertEqual(len(rows), 200)
+        self.assertEqual({call[0] for call, answer in rows}, set(range(16)))
+        told = answers(story())
+        place = 0
+        for number, (call, answer) in enumerate(rows):
+            self.assertEqual(answer[0], len(answer) - 1, (number, call))
+            self.assertEqual(told[place:place + len(answer)], answer, (number, call))
+            place += len(answer)
+        self.assertEqual(place, len(told))
 
     def test_each_beginning_of_the_list_is_answered_alike(self):
-        for end in range(1, len(STORY) + 1):
-            line = joined([call for call, answer in STORY[:end]])
-            self.assertEqual(answers(line), joined([answer for call, answer in STORY[:end]]))
+        for end in range(1, len(SHORT_STORY) + 1):
+            line = joined([call for call, answer in SHORT_STORY[:end]])
+            self.assertEqual(answers(line), joined([answer for call, answer in SHORT_STORY[:end]]))
 
     def test_plain_numbers_in_a_plain_list(self):
         told = answers(story())
@@ -86,8 +134,21 @@ class Answers(unittest.TestCase):
         line = joined([begin()] + [write(0, [9] * 70)] * 199)
         self.assertEqual(answers(line), [1, 0] + joined([[1, version] for version in range(1, 200)]))
 
+    def test_sixteen_thousand_numbers(self):
+        line = joined([begin()] + [write(0, [9] * 120)] * 129 + [write(0, [9] * 126)])
+        self.assertEqual(len(line), 16000)
+        self.assertEqual(answers(line), [1, 0] + joined([[1, version] for version in range(1, 130)]) + [1, -2])
+
+    def test_long_answers(self):
+        text = list(range(136, 256))
+        first = [begin(2, 1, 9), write(1, text), send(1), deliver(0), lose(0), tick(1), ask(0), deliver(0), deliver(0)]
+        told = answers(joined(first + [got(0, 0)] * 191))
+        self.assertEqual(told[-191 * 124:], ([123, 0, 1, 120] + text) * 191)
+
     def test_one_call(self):
         self.assertEqual(answers([0, 2, 1, 1]), [1, 0])
+        for call in all_but_begin(0):
+            self.assertEqual(answers(call), [1, -1])
 
 
 class NothingLeftBehind(unittest.TestCase):

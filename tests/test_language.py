@@ -1,5 +1,6 @@
 """The package keeps to the language document, and the finder of faults finds them."""
 
+import ast
 import os
 import unittest
 
@@ -14,6 +15,7 @@ WRONG = (
     ("L2", "from .game import answers\n"),
     ("L2", "from sealedorders.game import *\n"),
     ("L2", "X = 1\nfrom sealedorders.game import answers\n"),
+    ("L2", "def f(x):\n    from sealedorders.game import answers\n    return answers(x)\n"),
     ("L3", "print(1)\n"),
     ("L3", "X = []\n"),
     ("L3", "X = len(())\n"),
@@ -51,6 +53,9 @@ WRONG = (
     ("L17", "# its type\n"),
     ("L17", "def f(x):\n    return x.open\n"),
     ("L18", "class A:\n    def f(self):\n        return 1\n\n\nclass B:\n    def __init__(self):\n        self.f = 1\n"),
+    ("L18", "class A:\n    pass\n\n\ndef f():\n    return [A]\n"),
+    ("L18", "class A:\n    pass\n\n\ndef f():\n    A.x = 1\n"),
+    ("L18", "X = (1, 2)\n\n\ndef f():\n    X[0] = 1\n"),
     ("L20", "def f(x, y):\n    return x is y\n"),
     ("L21", "def f(x: int):\n    return x\n"),
     ("L22", "def f(x):\n    return sorted(x, reverse=True)\n"),
@@ -62,7 +67,9 @@ WRONG = (
     ("L25", "def f(x):\n    y = x.append\n    return y\n"),
     ("L26", "class A:\n    def __init__(self):\n        self.real = 1\n"),
     ("L27", "def f(n):\n    return 2 ** n\n"),
+    ("L27", "def f(n):\n    return n ** 65\n"),
     ("L27", "X = '%'\n"),
+    ("L27", "X = '\\x41'\n"),
     ("L28", "class A:\n    def __init__(self):\n        return None\n"),
 )
 
@@ -77,10 +84,18 @@ class Package(unittest.TestCase):
         for name in self.package_files():
             self.assertEqual(file_faults(name), [])
 
+    def source(self, name):
+        with open(os.path.join(FOLDER, name), encoding="utf-8", newline="") as file:
+            return file.read()
+
     def test_each_file(self):
         for name in self.package_files():
-            with open(os.path.join(FOLDER, name), encoding="utf-8", newline="") as file:
-                self.assertEqual(faults(file.read()), [], name)
+            self.assertEqual(faults(self.source(name)), [], name)
+
+    def test_nothing_is_imported(self):
+        for name in self.package_files():
+            for node in ast.walk(ast.parse(self.source(name))):
+                self.assertNotIsInstance(node, (ast.Import, ast.ImportFrom), name)
 
 
 class Finder(unittest.TestCase):

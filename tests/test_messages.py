@@ -2,7 +2,8 @@
 
 import unittest
 
-from lines import ask, begin, clear, deliver, flat, image, lose, more, played, replies, send, tick, write, written
+from lines import (ask, begin, clear, deliver, flat, image, lose, more, played, replies, send, stop, tell, tick,
+                   write, written)
 from sealedorders.game import Message
 
 NOTHING = (0,)
@@ -12,7 +13,7 @@ ASK = 2
 OPENED = 3
 
 
-def bag(game):
+def net(game):
     return [flat(message) for message in game.messages]
 
 
@@ -42,7 +43,7 @@ class Drafts(unittest.TestCase):
             self.assertEqual(game.umpire.opened[0][1], written(text))
 
     def test_nothing_is_sent(self):
-        self.assertEqual(bag(played(begin(), write(0, [1]), clear(1))), [])
+        self.assertEqual(net(played(begin(), write(0, [1]), clear(1))), [])
 
     def test_no_draft_at_first_but_nothing_and_an_empty_text_are_drafts(self):
         self.assertEqual(replies(begin(), send(0), clear(0), send(0), write(1), send(1)),
@@ -54,15 +55,15 @@ class Sending(unittest.TestCase):
         game = played(begin(), write(1, [1]), write(1, [2]), send(1), clear(1), send(1), send(1))
         first = (HAND, 1, 0, 2, written([2]), ())
         second = (HAND, 1, 0, 3, NOTHING, ())
-        self.assertEqual(bag(game), [first, second, second])
+        self.assertEqual(net(game), [first, second, second])
 
     def test_ask_holds_the_season_of_the_machine(self):
         game = played(begin(), ask(1), tick(10), ask(1), deliver(0), deliver(1), ask(1))
-        self.assertEqual(bag(game), [(ASK, 1, 0, 0, NOTHING, ()), (ASK, 1, 1, 0, NOTHING, ())])
+        self.assertEqual(net(game), [(ASK, 1, 0, 0, NOTHING, ()), (ASK, 1, 1, 0, NOTHING, ())])
 
     def test_messages_stand_in_the_order_they_were_put(self):
         game = played(begin(), write(0), ask(1), send(0), ask(0))
-        self.assertEqual([message[:2] for message in bag(game)], [(ASK, 1), (HAND, 0), (ASK, 0)])
+        self.assertEqual([message[:2] for message in net(game)], [(ASK, 1), (HAND, 0), (ASK, 0)])
 
 
 class Taking(unittest.TestCase):
@@ -88,18 +89,16 @@ class Taking(unittest.TestCase):
 
     def test_what_a_message_brings_about_is_put_behind_the_others(self):
         game = played(begin(3), write(0), send(0), ask(1), ask(2), deliver(0))
-        self.assertEqual([message[:2] for message in bag(game)], [(ASK, 1), (ASK, 2), (RECEIPT, 0)])
+        self.assertEqual([message[:2] for message in net(game)], [(ASK, 1), (ASK, 2), (RECEIPT, 0)])
 
     def test_what_a_message_brings_about_may_take_its_room(self):
         told = replies(begin(room=1), write(0), send(0), deliver(0), send(0), deliver(0), send(0))
         self.assertEqual(told[-4:], [[1], [-5], [0], [0]])
 
     def test_what_is_put_while_there_is_no_room_is_lost(self):
-        game = played(begin(room=2), write(0), send(0), ask(1))
-        game.room = 1
-        self.assertEqual(more(game, deliver(0)), [[1]])
-        self.assertEqual(bag(game), [(ASK, 1, 0, 0, NOTHING, ())])
-        self.assertEqual(sheet(game, 0), (1, written([])))
+        game = played(begin(room=2), tick(10), ask(1))
+        self.assertEqual(more(game, tell(0)), [[1]])
+        self.assertEqual(net(game), [(ASK, 1, 0, 0, NOTHING, ()), (OPENED, 0, 0, 0, NOTHING, (NOTHING, NOTHING))])
 
 
 class Hand(unittest.TestCase):
@@ -112,17 +111,17 @@ class Hand(unittest.TestCase):
     def test_greater_version(self):
         game = self.two_hands(0, 0)
         self.assertEqual(sheet(game, 0), (2, written([2])))
-        self.assertEqual(bag(game), [(RECEIPT, 0, 0, 1, NOTHING, ()), (RECEIPT, 0, 0, 2, NOTHING, ())])
+        self.assertEqual(net(game), [(RECEIPT, 0, 0, 1, NOTHING, ()), (RECEIPT, 0, 0, 2, NOTHING, ())])
 
     def test_lesser_version(self):
         game = self.two_hands(1, 0)
         self.assertEqual(sheet(game, 0), (2, written([2])))
-        self.assertEqual(bag(game), [(RECEIPT, 0, 0, 2, NOTHING, ())] * 2)
+        self.assertEqual(net(game), [(RECEIPT, 0, 0, 2, NOTHING, ())] * 2)
 
     def test_same_version(self):
         game = played(begin(), write(0, [1]), send(0), send(0), deliver(0), deliver(0))
         self.assertEqual(sheet(game, 0), (1, written([1])))
-        self.assertEqual(bag(game), [(RECEIPT, 0, 0, 1, NOTHING, ())] * 2)
+        self.assertEqual(net(game), [(RECEIPT, 0, 0, 1, NOTHING, ())] * 2)
 
     def test_same_version_keeps_what_is_on_the_sheet(self):
         game = played(begin(), write(0, [1]), send(0), send(0), deliver(0))
@@ -145,18 +144,17 @@ class Hand(unittest.TestCase):
     def test_for_a_season_that_is_over_puts_opened(self):
         game = played(begin(), write(1, [5]), send(1), deliver(0), deliver(0), write(0, [1]), send(0), tick(10))
         self.assertEqual(more(game, deliver(0)), [[1]])
-        self.assertEqual(bag(game), [(OPENED, 0, 0, 0, NOTHING, (NOTHING, written([5])))])
+        self.assertEqual(net(game), [(OPENED, 0, 0, 0, NOTHING, (NOTHING, written([5])))])
         self.assertEqual([sheet(game, p) for p in range(2)], [(0, NOTHING)] * 2)
 
     def test_for_a_season_long_over_puts_the_row_of_that_season(self):
         game = played(begin(), write(0, [1]), send(0), send(0), deliver(0), deliver(1), tick(10), tick(10), tick(10))
         more(game, deliver(0))
-        self.assertEqual(bag(game), [(OPENED, 0, 0, 0, NOTHING, (written([1]), NOTHING))])
+        self.assertEqual(net(game), [(OPENED, 0, 0, 0, NOTHING, (written([1]), NOTHING))])
 
     def test_while_the_umpire_is_off(self):
         for moments in (0, 10):
-            game = played(begin(), write(0, [1]), send(0), tick(moments))
-            game.umpire.on = False
+            game = played(begin(), write(0, [1]), send(0), tick(moments), stop())
             before = image(game)
             self.assertEqual(more(game, deliver(0)), [[0]])
             before["messages"] = []
@@ -183,7 +181,7 @@ class Receipt(unittest.TestCase):
 
     def test_in_another_season(self):
         game = played(begin(), write(0), send(0), deliver(0), tick(10), ask(0), deliver(1), deliver(1))
-        self.assertEqual(bag(game), [(RECEIPT, 0, 0, 1, NOTHING, ())])
+        self.assertEqual(net(game), [(RECEIPT, 0, 0, 1, NOTHING, ())])
         self.assertEqual(more(game, deliver(0)), [[0]])
         self.assertEqual(machine(game, 0)[:3], (1, 1, 0))
 
@@ -206,20 +204,23 @@ class Ask(unittest.TestCase):
     def test_for_a_season_that_is_over(self):
         game = played(begin(), write(1, [4]), send(1), deliver(0), lose(0), tick(10), ask(0))
         self.assertEqual(more(game, deliver(0)), [[1]])
-        self.assertEqual(bag(game), [(OPENED, 0, 0, 0, NOTHING, (NOTHING, written([4])))])
+        self.assertEqual(net(game), [(OPENED, 0, 0, 0, NOTHING, (NOTHING, written([4])))])
 
     def test_for_a_season_that_goes_on(self):
         game = played(begin(), ask(0), tick(9))
         self.assertEqual(more(game, deliver(0)), [[0]])
-        self.assertEqual(bag(game), [])
+        self.assertEqual(net(game), [])
 
     def test_sent_while_it_went_on_and_brought_when_it_is_over(self):
         self.assertEqual(replies(begin(), ask(0), tick(10), deliver(0))[-1], [1])
 
     def test_while_the_umpire_is_off(self):
-        game = played(begin(), tick(10), ask(0))
-        game.umpire.on = False
-        self.assertEqual(more(game, deliver(0)), [[0]])
+        for moments in (0, 10):
+            game = played(begin(), ask(0), tick(moments), stop())
+            before = image(game)
+            self.assertEqual(more(game, deliver(0)), [[0]])
+            before["messages"] = []
+            self.assertEqual(image(game), before)
 
 
 class Opened(unittest.TestCase):
@@ -239,8 +240,7 @@ class Opened(unittest.TestCase):
     def test_for_a_season_ahead_of_the_machine(self):
         game = played(begin(), tick(10), tick(10), write(0, [7]))
         before = image(game)
-        game.messages.append(Message(OPENED, 0, 1, 0, NOTHING, (NOTHING, NOTHING)))
-        self.assertEqual(more(game, deliver(0)), [[0]])
+        self.assertEqual(more(game, tell(1), deliver(0), deliver(0)), [[2], [1], [0]])
         self.assertEqual(image(game), before)
 
     def test_what_the_machine_does_next(self):
@@ -250,7 +250,7 @@ class Opened(unittest.TestCase):
 
     def test_the_next_hand_is_for_the_next_season(self):
         game = played(begin(), write(0, [1]), tick(10), ask(0), deliver(0), deliver(0), write(0, [2]), send(0))
-        self.assertEqual(bag(game), [(HAND, 0, 1, 2, written([2]), ())])
+        self.assertEqual(net(game), [(HAND, 0, 1, 2, written([2]), ())])
         more(game, deliver(0))
         self.assertEqual(sheet(game, 0), (2, written([2])))
 
@@ -262,9 +262,7 @@ class Opened(unittest.TestCase):
         self.assertEqual(more(game, ask(0), deliver(0)), [[0], [0]])
 
     def test_an_umpire_that_is_off_does_not_matter(self):
-        game = played(begin(), tick(10), ask(0), deliver(0))
-        game.umpire.on = False
-        more(game, deliver(0))
+        game = played(begin(), tick(10), ask(0), deliver(0), stop(), deliver(0))
         self.assertEqual(game.machines[0].season, 1)
 
     def test_behind_the_times_machine_hands_for_its_own_season(self):
